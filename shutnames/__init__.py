@@ -1,0 +1,1 @@
+"""Shutnames: terms in which names are shut in, and what is the same whatever they are called."""
