@@ -12,6 +12,10 @@ INTERFACE = {
     "errors": ["ShutError", "NoName", "NoTurn", "NoTerm", "HasHoles", "NoFilling", "NoFacts", "NoAsk", "NotApart", "NoRule",
                "NoWeighing", "NoPaper", "NoLine", "NoUndo", "NoPlace", "BadStep", "Clash", "NotClosed", "TooLong", "NotGood",
                "NoText", "Missing"],
+    "terms": ["is_term", "parts_of", "levels_of", "names_in", "holes_in", "places_of", "part_at", "put_at", "turned_term"],
+    "alike": ["free_names", "level_form", "are_alike", "told_form", "replaced"],
+    "fillings": ["filled", "then_filling", "keeps"],
+    "facts": ["needs", "needs_behind", "holds", "parts_it"],
 }
 BUILTINS = set("""len range enumerate zip min max sum abs sorted reversed int str bool list tuple dict set isinstance ord repr
 any all divmod ValueError KeyError IndexError LookupError ZeroDivisionError StopIteration NotImplemented""".split())

@@ -6,7 +6,7 @@ import unittest
 from shutnames.errors import NoName, NoTurn
 from shutnames.turns import (apart_names, back_turn, is_turn, rounds_of, swaps_of, then_turn, turn_of, turned_name)
 
-from things import FIVE, deep, drawn, many_odd, some_turn, turn_moving
+from things import FIVE, deep, drawn, led, many_odd, some_turn, turn_moving
 
 SWAP = (("a", "b"), ("b", "a"))
 ROUND = (("a", "b"), ("b", "c"), ("c", "a"))
@@ -25,14 +25,6 @@ NO_TURNS = [
 GOOD_NAMES = ["a", "z", "a1", "a0", "zz", "abcdefgh", "a1234567", "name"]
 NO_NAMES = ["", "1", "1a", "A", "aB", "a_b", "a b", " a", "a ", "a-", "abcdefghi", "a\n", "$a", "\u00e9", "a\u0660", "a\u00b2",
             None, True, 1, ("a",), ["a"], {"a": "b"}, (), b"a"]
-
-
-def led(turn, name):
-    """Where the turn leads the name, looked up pair by pair."""
-    for one, to in turn:
-        if one == name:
-            return to
-    return name
 
 
 class IsTurn(unittest.TestCase):
