@@ -21,6 +21,14 @@ def check_ask(thing):
         raise NoAsk("this is no ask")
 
 
+def check_asks(things):
+    """Refuse what is no list of asks."""
+    if not isinstance(things, list):
+        raise NoAsk("this is no list of asks")
+    for thing in things:
+        check_ask(thing)
+
+
 def terms_asked(ask):
     """The terms of the ask."""
     return [ask[1], ask[2]] if ask[0] == "alike" else [ask[2]]
@@ -73,6 +81,10 @@ def comes_of_fresh(name, term):
 
 
 def comes_of(ask):
-    """The asks to which an ask that is no fact comes down; None where no facts are enough for it."""
+    """The facts and the asks, a list each, to which an ask comes down where no hole is filled; None where to none."""
+    fact = fact_asked(ask)
+    if fact is not None:
+        return ([fact], [])
     kind, one, other = ask
-    return comes_of_alike(one, other) if kind == "alike" else comes_of_fresh(one, other)
+    asks = comes_of_alike(one, other) if kind == "alike" else comes_of_fresh(one, other)
+    return None if asks is None else ([], asks)

@@ -1,7 +1,7 @@
 """What must be known of holes for an ask to be met."""
 
 from shutnames.alike import free_within, same_levels
-from shutnames.asking import check_ask, comes_of, fact_asked, holes_asked, terms_asked
+from shutnames.asking import check_ask, comes_of, holes_asked, terms_asked
 from shutnames.fillings import check_facts, check_filling, filled_by, is_plain_filling, keeps_facts
 from shutnames.names import names_beside
 from shutnames.rows import parts_in
@@ -12,15 +12,11 @@ def least_facts(asks):
     found = []
     waiting = list(asks)
     while waiting:
-        ask = waiting.pop()
-        fact = fact_asked(ask)
-        if fact is not None:
-            found.append(fact)
-            continue
-        comes = comes_of(ask)
+        comes = comes_of(waiting.pop())
         if comes is None:
             return None
-        waiting.extend(comes)
+        found.extend(comes[0])
+        waiting.extend(comes[1])
     return tuple(sorted(set(found)))
 
 
@@ -38,7 +34,7 @@ def needs_behind(facts, filling):
     return least_facts([("fresh", name, put.get(hole, ("hole", (), hole))) for name, hole in facts])
 
 
-def meets(ask, put):
+def met_by(ask, put):
     """Whether a dict that fills all holes of the ask with plain terms meets it."""
     terms = [filled_by(put, term) for term in terms_asked(ask)]
     if ask[0] == "alike":
@@ -86,4 +82,4 @@ def parts_it(ask, filling, *, facts=()):
     put = dict(filling)
     if not all([hole in put for hole in holes_of(ask, facts)]):
         return False
-    return keeps_facts(put, facts) and not meets(ask, put)
+    return keeps_facts(put, facts) and not met_by(ask, put)

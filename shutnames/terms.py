@@ -95,16 +95,21 @@ def part_at(term, place):
     return parts_down(term, place)[-1]
 
 
-def put_at(term, place, part):
-    """The term with another part at the place."""
-    check_term(term)
-    check_term(part)
+def put_down(term, place, part):
+    """The term with another part at the place, both known to be terms."""
     way = parts_down(term, place)
     whole = part
     for at, above in reversed(list(zip(place, way))):
         parts = within(above)
         whole = with_parts(above, parts[:at] + (whole,) + parts[at + 1:])
     return whole
+
+
+def put_at(term, place, part):
+    """The term with another part at the place."""
+    check_term(term)
+    check_term(part)
+    return put_down(term, place, part)
 
 
 def turned_part(moves, part, told):
@@ -120,6 +125,8 @@ def turned_part(moves, part, told):
 
 def turned(turn, term):
     """The term led by the turn, both known to be such."""
+    if not turn:
+        return term
     moves = dict(turn)
     return changed(term, lambda part, told: turned_part(moves, part, told))
 

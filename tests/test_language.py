@@ -16,7 +16,12 @@ INTERFACE = {
     "alike": ["free_names", "level_form", "are_alike", "told_form", "replaced"],
     "fillings": ["filled", "then_filling", "keeps"],
     "facts": ["needs", "needs_behind", "holds", "parts_it"],
+    "making": ["walked", "made", "lets"],
+    "rules": ["look_rule"],
+    "texts": ["term_text", "facts_text", "ask_text", "rule_text", "filling_text", "word_of"],
 }
+CLASSES = {}
+OWN_DUNDERS = ["__init__", "__len__", "__eq__", "__str__"]
 BUILTINS = set("""len range enumerate zip min max sum abs sorted reversed int str bool list tuple dict set isinstance ord repr
 any all divmod ValueError KeyError IndexError LookupError ZeroDivisionError StopIteration NotImplemented""".split())
 METHODS = set("""append clear copy count endswith extend find get index insert isalnum isalpha isdigit islower isspace isupper
@@ -71,6 +76,17 @@ def docstrings():
     return found
 
 
+def methods_of(classes):
+    """The names of all methods of a list of classes."""
+    return [node.name for made in classes for node in made.body if isinstance(node, ast.FunctionDef)]
+
+
+def attributes_of(made):
+    """The names of the attributes that a class gives its objects."""
+    stored = [node for node in ast.walk(made) if isinstance(node, ast.Attribute) and isinstance(node.ctx, ast.Store)]
+    return [node.attr for node in stored if isinstance(node.value, ast.Name) and node.value.id == "self"]
+
+
 class Files(unittest.TestCase):
     def test_only_python_files(self):
         self.assertEqual([name for name in os.listdir(PACKAGE) if not name.endswith(".py") and name != "__pycache__"], [])
@@ -88,14 +104,18 @@ class Files(unittest.TestCase):
         for name, wanted in INTERFACE.items():
             defined = [node.name for node in TREES[name].body if isinstance(node, (ast.FunctionDef, ast.ClassDef))]
             self.assertEqual([word for word in wanted if word not in defined], [])
+        for name, classes in CLASSES.items():
+            for word, methods in classes.items():
+                defined = methods_of([node for node in TREES[name].body if isinstance(node, ast.ClassDef) and node.name == word])
+                self.assertEqual([method for method in methods if method not in defined], [])
 
 
 class Names(unittest.TestCase):
     def test_bound_names(self):
         for name, where in bound_names():
             self.assertNotIn(name, BARRED, where)
-            self.assertTrue(name == "__init__" or not hasattr(builtins, name), where)
-            self.assertTrue(name == "__init__" or not name.startswith("__"), where)
+            self.assertTrue(name in OWN_DUNDERS or not hasattr(builtins, name), where)
+            self.assertTrue(name in OWN_DUNDERS or not name.startswith("__"), where)
 
     def test_builtins(self):
         for node, where in nodes(ast.Name):
@@ -112,9 +132,18 @@ class Names(unittest.TestCase):
             self.assertEqual(sorted(set(top) & set(local)), [], name)
 
     def test_methods(self):
+        own = methods_of([node for node, _ in nodes(ast.ClassDef)])
         for node, where in nodes(ast.Call):
             if isinstance(node.func, ast.Attribute):
-                self.assertIn(node.func.attr, METHODS, where)
+                self.assertTrue(node.func.attr in METHODS or node.func.attr in own, where)
+        self.assertEqual([name for name in own if name in METHODS and name != "__init__"], [])
+
+    def test_methods_are_called_unlike_attributes(self):
+        classes = [node for node, _ in nodes(ast.ClassDef)]
+        methods = methods_of(classes)
+        for made in classes:
+            self.assertEqual(len(methods_of([made])), len(set(methods_of([made]))), made.name)
+            self.assertEqual([name for name in attributes_of(made) if name in methods or name in METHODS], [], made.name)
 
 
 class Imports(unittest.TestCase):
