@@ -50,3 +50,8 @@ def names_beside(taken, many):
             found.append(name)
         at += 1
     return found
+
+
+def holes_beside(taken, many):
+    """So many holes that aren't among those taken."""
+    return [name.upper() for name in names_beside([hole.lower() for hole in taken], many)]

@@ -44,6 +44,21 @@ def undone(turn):
     return tuple(sorted([(to, name) for name, to in turn]))
 
 
+def eased(turn, barred):
+    """The turn that leads all names but those of a dict as this one does, and moves as few others as can be."""
+    moves = {name: to for name, to in turn if name not in barred}
+    led_to = {to: True for to in moves.values()}
+    whole = dict(moves)
+    for name, to in moves.items():
+        if name not in led_to:
+            # Nothing leads here any more: so the end of the way from here must.
+            end = to
+            while end in moves:
+                end = moves[end]
+            whole[end] = name
+    return turn_from(whole)
+
+
 def led_apart(first, second):
     """The rising list of the names that two dicts of moves lead to unlike ones."""
     moved = {**first, **second}

@@ -17,10 +17,17 @@ INTERFACE = {
     "fillings": ["filled", "then_filling", "keeps"],
     "facts": ["needs", "needs_behind", "holds", "parts_it"],
     "making": ["walked", "made", "lets"],
+    "asks": ["Asks", "least_lots", "most_lots"],
+    "patterns": ["matched"],
     "rules": ["look_rule"],
+    "uses": ["steps_of", "ended"],
+    "weighings": ["weight_of", "falls"],
     "texts": ["term_text", "facts_text", "ask_text", "rule_text", "filling_text", "word_of"],
 }
-CLASSES = {}
+CLASSES = {
+    "asks": {"Asks": ["put", "take", "mark", "back", "numbers", "asks", "answer", "meets", "__init__", "__len__", "__eq__",
+                      "__str__"]},
+}
 OWN_DUNDERS = ["__init__", "__len__", "__eq__", "__str__"]
 BUILTINS = set("""len range enumerate zip min max sum abs sorted reversed int str bool list tuple dict set isinstance ord repr
 any all divmod ValueError KeyError IndexError LookupError ZeroDivisionError StopIteration NotImplemented""".split())

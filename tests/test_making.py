@@ -462,8 +462,15 @@ class Lets(unittest.TestCase):
             ("never", [[0, 0]], 1), ("never", [(0, 0), (1, 0)], 0), ("never", [(0, 0)]), ("never", [(0, 0)], 1, ()),
             ["never", [(0, 0)], 1], ("never", (), (), [(0, 0)]), ("made", [(0, 0)], 1), ("made", (), (), [(0, 0)]),
             ("never", [(0, 0)], 10 ** 20), ("never", None, 1), ("never", [None], 1), ("never", 1, [(0, 0)]),
+            ("Never", [(0, 0)], 1), (None, [(0, 0)], 1), ("made", [(0, 0)], 1, [(0, 0)]), ("never", (), 1, [(0, 0)]),
+            (None, [(0, 0)], 1, [(0, 0)]),
         ] + many_odd():
             self.assertIs(lets(asks, answer), False, answer)
+
+    def test_asks_with_which_a_step_can_be_done(self):
+        for ask in [("alike", X, A), ("alike", A, X), ("alike", X, Y), ("alike", A, A), ("alike", X, X), ("fresh", "a", B),
+                    ("fresh", "a", X), ("alike", sign("f", A), sign("f", B))]:
+            self.assertIs(lets([ask], ("never", [], 0)), False, ask)
 
     def test_odd_things_within(self):
         asks = [("alike", X, A)]

@@ -4,7 +4,7 @@ import itertools
 import unittest
 
 from shutnames.errors import NoName, NoTurn
-from shutnames.turns import (apart_names, back_turn, is_turn, rounds_of, swaps_of, then_turn, turn_of, turned_name)
+from shutnames.turns import (apart_names, back_turn, eased, is_turn, rounds_of, swaps_of, then_turn, turn_of, turned_name)
 
 from things import FIVE, deep, drawn, led, many_odd, some_turn, turn_moving
 
@@ -152,6 +152,25 @@ class Rounds(unittest.TestCase):
             for swap in swaps:
                 self.assertIs(type(swap), tuple)
                 self.assertNotEqual(swap[0], swap[1])
+
+
+class Eased(unittest.TestCase):
+    def test_by_hand(self):
+        for turn, barred, wanted in [
+            ((), "a", ()), (SWAP, "", SWAP), (SWAP, "a", SWAP), (SWAP, "ab", ()), (SWAP, "c", SWAP), (ROUND, "c", ROUND),
+            (ROUND, "bc", SWAP), (ROUND, "ab", (("a", "c"), ("c", "a"))), (ROUND, "abc", ()),
+            (TWO_ROUNDS, "ac", (("b", "d1"), ("d1", "e"), ("e", "b"))),
+        ]:
+            self.assertEqual(eased(turn, list(barred)), wanted, (turn, barred))
+
+    def test_all_of_four(self):
+        for turn in ALL_OF_FOUR:
+            for many in range(5):
+                for barred in itertools.combinations("abcd", many):
+                    told = eased(turn, barred)
+                    right = [one for one in ALL_OF_FOUR if all(led(one, a) == led(turn, a) for a in "abcd" if a not in barred)]
+                    self.assertIn(told, right)
+                    self.assertEqual(len(told), min(len(one) for one in right), (turn, barred))
 
 
 class Refusals(unittest.TestCase):
