@@ -1,19 +1,13 @@
 """Asks kept that can all be met together, and the lots of asks that can and can't be."""
 
 from shutnames.asking import check_ask, check_asks, holes_asked
-from shutnames.errors import Clash, Missing, NoFilling
+from shutnames.errors import Clash, NoFilling
 from shutnames.facts import met_by
 from shutnames.fillings import is_plain_filling
+from shutnames.keeping import check_kept
 from shutnames.lots import all_lots, met_together, pared
 from shutnames.making import answered
-from shutnames.names import is_number
 from shutnames.texts import ask_text
-
-
-def check_kept(kept, number):
-    """Refuse what is no number among the keys of a dict."""
-    if not is_number(number) or number not in kept:
-        raise Missing(number)
 
 
 class Asks:
@@ -51,6 +45,15 @@ class Asks:
         check_kept(self.marks, number)
         self.kept = dict(self.marks[number])
         self.marks = {mark: kept for mark, kept in self.marks.items() if mark <= number}
+
+    def copied(self):
+        """An Asks that is as this one, and goes on by itself."""
+        asks = Asks()
+        asks.kept = dict(self.kept)
+        asks.given = self.given
+        asks.marks = {mark: dict(kept) for mark, kept in self.marks.items()}
+        asks.marked = self.marked
+        return asks
 
     def numbers(self):
         """The rising list of the numbers that are kept."""

@@ -1,12 +1,13 @@
 """Rules used: the steps that lead on from a term, and its end."""
 
 from shutnames.bounds import MOST_USES
-from shutnames.errors import TooLong
+from shutnames.errors import NoPlace, TooLong
 from shutnames.fillings import check_facts, filled_by
+from shutnames.names import is_number
 from shutnames.patterns import filling_dict
 from shutnames.renewing import made_new
 from shutnames.rows import changed, parts_in, places_in, with_parts
-from shutnames.terms import check_term, holes_within, names_at, put_down
+from shutnames.terms import check_term, holes_within, names_at, parts_down, put_down
 from shutnames.turns import eased
 
 
@@ -22,13 +23,13 @@ def names_within(term):
     return {name: True for part in parts_in(term) for name in names_at(part)}
 
 
-def new_rules(term, rules, facts):
+def new_rules(term, rules, facts, beside):
     """The rules with new names and holes beside the term and the facts: lists of them, by the heads of left sides.
 
-    Each is told with its number, and with its new names.
+    Each is told with its number, and with its new names. Those are none of the names of the dict beside either.
     """
     holes = holes_within(term)
-    taken = {**names_within(term), **{name: True for name, _ in facts}}
+    taken = {**beside, **names_within(term), **{name: True for name, _ in facts}}
     found = {}
     for number, rule in enumerate(rules):
         new_rule, new_names = made_new(rule, taken, holes)
@@ -75,17 +76,17 @@ def step_at(term, place, part, new_rule, known):
     return (place, number, told, tuple(sorted(list(known) + more)))
 
 
-def chances(term, rules, facts):
+def chances(term, rules, facts, beside):
     """All places of the term, rising, each with its part and with each rule whose left side has a head like it."""
-    by_head = new_rules(term, rules, facts)
+    by_head = new_rules(term, rules, facts, beside)
     rows = list(zip(places_in(term), parts_in(term)))
     return [(place, part, new_rule) for place, part in rows for new_rule in by_head.get(head_of(part), ())]
 
 
-def first_step(term, rules, facts):
-    """The first step that leads on from the term; None where none does."""
+def first_step(term, rules, facts, beside):
+    """The first step that leads on from the term, its new names being none of a dict's; None where none does."""
     known = {fact: True for fact in facts}
-    for place, part, new_rule in chances(term, rules, facts):
+    for place, part, new_rule in chances(term, rules, facts, beside):
         step = step_at(term, place, part, new_rule, known)
         if step is not None:
             return step
@@ -97,20 +98,37 @@ def steps_of(term, rules, *, facts=()):
     check_term(term)
     check_facts(facts)
     known = {fact: True for fact in facts}
-    steps = [step_at(term, place, part, new_rule, known) for place, part, new_rule in chances(term, rules, facts)]
+    steps = [step_at(term, place, part, new_rule, known) for place, part, new_rule in chances(term, rules, facts, {})]
     return [step for step in steps if step is not None]
+
+
+def led_by(term, rules, place, number):
+    """What a rule leads to at a place of the plain term, these two being anything; None where it doesn't lead on."""
+    if not isinstance(place, tuple) or not is_number(number) or not 0 <= number < len(rules):
+        return None
+    try:
+        part = parts_down(term, place)[-1]
+    except NoPlace:
+        return None
+    step = step_at(term, place, part, (number,) + made_new(rules[number], names_within(term), []), {})
+    return None if step is None else step[2]
+
+
+def ended_beside(term, rules, facts, most, beside):
+    """What ended tells, with new names that are none of the names of the dict beside."""
+    uses = []
+    step = first_step(term, rules, facts, beside)
+    while step is not None:
+        if len(uses) >= most:
+            raise TooLong(most)
+        place, number, term, facts = step
+        uses.append((place, number))
+        step = first_step(term, rules, facts, beside)
+    return (term, facts, uses)
 
 
 def ended(term, rules, *, facts=(), most=MOST_USES):
     """The term and the facts to which the first steps lead till there is none, and the list of their uses."""
     check_term(term)
     check_facts(facts)
-    uses = []
-    step = first_step(term, rules, facts)
-    while step is not None:
-        if len(uses) >= most:
-            raise TooLong(most)
-        place, number, term, facts = step
-        uses.append((place, number))
-        step = first_step(term, rules, facts)
-    return (term, facts, uses)
+    return ended_beside(term, rules, facts, most, {})

@@ -74,11 +74,17 @@ def weight_of(term, weighing):
     return worth_of(term, weighing)[None]
 
 
+def worth_more(rule, weighing):
+    """How much more the left side weighs than the right one: a dict as worth_of tells it."""
+    _, left, right = rule
+    return added([(worth_of(left, weighing), 1), (worth_of(right, weighing), -1)], 0)
+
+
 def falls(rule, weighing):
     """Whether the left side weighs more than the right one whatever its holes weigh, or else by what it doesn't."""
     _, left, right = rule
     check_weighing(weighing, [left, right])
-    more = added([(worth_of(left, weighing), 1), (worth_of(right, weighing), -1)], 0)
+    more = worth_more(rule, weighing)
     least = sum(list(more.values()))
     worths = {hole: 1 for hole in holes_within(left)}
     if least <= 0:

@@ -205,6 +205,27 @@ class Marks(unittest.TestCase):
                 self.assertEqual((asks.numbers(), asks.asks()), (sorted(rows), [rows[at] for at in sorted(rows)]))
                 self.assertEqual(len(asks), len(rows))
 
+    def test_copied(self):
+        asks = asks_of(XY, TRUE)
+        asks.mark()
+        asks.take(1)
+        twin = asks.copied()
+        for one, other in ((asks, twin), (twin, asks.copied())):
+            before = state(other)
+            one.put(FRESH)
+            one.back(0)
+            one.put(TRUE)
+            one.take(0)
+            self.assertEqual(state(other), before)
+        # It goes on with the same numbers, and with marks of its own.
+        asks = asks_of(XY, TRUE)
+        asks.mark()
+        twin = asks.copied()
+        self.assertEqual([asks.put(XA), asks.mark(), twin.put(XA), twin.mark()], [2, 1, 2, 1])
+        twin.back(0)
+        self.assertEqual((asks.numbers(), twin.numbers()), ([0, 1, 2], [0, 1]))
+        asks.back(1)
+
     def test_missing(self):
         asks = asks_of(TRUE, XA)
         asks.mark()
