@@ -44,14 +44,19 @@ def free_in_rule(rule):
     return sorted({part[1] for part, shuts in standings(rule) if part[0] == "name" and part[1] not in shuts})
 
 
-def is_closed_at(name, hole, standing):
-    """Whether the name is treated alike at all standings of the hole: shut at each one, or at none and led to one."""
-    led = []
-    shut = []
+def turns_of_holes(standing):
+    """For each hole the turns under which it stands, as dicts, each with the names of the shuts above it there."""
+    found = {}
     for part, shuts in standing:
-        if part[0] == "hole" and part[2] == hole:
-            led.append(dict(part[1]).get(name, name))
-            shut.append(led[-1] in shuts)
+        if part[0] == "hole":
+            found.setdefault(part[2], []).append((dict(part[1]), shuts))
+    return found
+
+
+def is_closed_at(name, turns):
+    """Whether the name is treated alike under all turns of a hole: shut at each one, or at none and led to one."""
+    led = [moves.get(name, name) for moves, _ in turns]
+    shut = [to in shuts for to, (_, shuts) in zip(led, turns)]
     return all(shut) or (not any(shut) and len(set(led)) == 1)
 
 
@@ -61,8 +66,19 @@ def look_rule(rule):
     free = free_in_rule(rule)
     if free:
         raise NotClosed(free[0], None)
-    standing = standings(rule)
-    for hole in holes_within(rule[1]):
-        for name in names_of_rule(rule):
-            if (name, hole) not in rule[0] and not is_closed_at(name, hole, standing):
+    turns = turns_of_holes(standings(rule))
+    known = {fact: True for fact in rule[0]}
+    names = names_of_rule(rule)
+    for hole in sorted(turns):
+        for name in names:
+            if (name, hole) not in known and not is_closed_at(name, turns[hole]):
                 raise NotClosed(name, hole)
+
+
+def is_closed_rule(thing):
+    """Whether a thing is a closed rule."""
+    try:
+        look_rule(thing)
+    except (NoRule, NotClosed):
+        return False
+    return True
